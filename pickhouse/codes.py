@@ -19,6 +19,11 @@ def set_of(code):
     return [thing for thing, power in enumerate(POWERS) if code & power]
 
 
+def kept_on(codes, things):
+    kept = code_of(things)
+    return [code & kept for code in codes]
+
+
 def place_in_order(one):
     return (len(one), one)
 
@@ -31,3 +36,7 @@ def told(codes):
 def sets_of(things):
     whole = code_of(things)
     return told([code for code in range(whole + 1) if (code & whole) == code])
+
+
+def all_sets(many):
+    return sets_of(list(range(many)))

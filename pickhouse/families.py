@@ -1,7 +1,7 @@
 """Families: what is one, its others, what it leaves on some things, and flipped."""
 
-from pickhouse.codes import POWERS, code_of, codes_of, told
-from pickhouse.errors import NoFamily, NoSet
+from pickhouse.codes import POWERS, code_of, codes_of, kept_on, told
+from pickhouse.errors import NoFamily, NoSet, NoThing
 
 MOST_THINGS = 6
 
@@ -35,6 +35,11 @@ def check_set(many, things):
         raise NoSet("the list is no set of the things")
 
 
+def check_thing(many, thing):
+    if thing < 0 or thing >= many:
+        raise NoThing("the number is none of the things")
+
+
 def ordered(many, family):
     check_family(many, family)
     return told(codes_of(family))
@@ -49,8 +54,7 @@ def others(many, family):
 def left_on(many, family, things):
     check_family(many, family)
     check_set(many, things)
-    kept = code_of(things)
-    return told([code & kept for code in codes_of(family)])
+    return told(kept_on(codes_of(family), things))
 
 
 def flipped(many, family, things):

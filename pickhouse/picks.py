@@ -1,13 +1,12 @@
 """Picking out: the sets that a family picks out whole, the cubes in it, its reach and the bound for a reach."""
 
-from pickhouse.codes import POWERS, code_of, codes_of, sets_of, told
+from pickhouse.codes import POWERS, all_sets, code_of, codes_of, kept_on, sets_of, told
 from pickhouse.families import check_family, check_set, left_on
 
 
 # What is left is among the sets of the things, so it is all of them where it is as many.
 def leaves_all(codes, things):
-    kept = code_of(things)
-    return len(set([code & kept for code in codes])) == POWERS[len(things)]
+    return len(set(kept_on(codes, things))) == POWERS[len(things)]
 
 
 # No two members with the same base are the same on the things, so a base
@@ -45,13 +44,13 @@ def cube_at(many, family, things):
 def picked(many, family):
     check_family(many, family)
     codes = codes_of(family)
-    return [one for one in sets_of(list(range(many))) if leaves_all(codes, one)]
+    return [one for one in all_sets(many) if leaves_all(codes, one)]
 
 
 def cubes(many, family):
     check_family(many, family)
     codes = codes_of(family)
-    return [one for one in sets_of(list(range(many))) if full_bases(codes, one)]
+    return [one for one in all_sets(many) if full_bases(codes, one)]
 
 
 def reach(many, family):

@@ -3,7 +3,10 @@
 from itertools import combinations
 
 from pickhouse.families import flipped, left_on, ordered, others
+from pickhouse.notes import shown
 from pickhouse.picks import cube_at, cubes, missing, picked, picks, reach
+from pickhouse.pressing import is_down, pressed_down
+from pickhouse.telling import apart
 
 OF_A_FAMILY = {
     "ordered": ordered,
@@ -11,6 +14,10 @@ OF_A_FAMILY = {
     "picked": picked,
     "cubes": cubes,
     "reach": reach,
+    "pressed_down": pressed_down,
+    "is_down": is_down,
+    "apart": apart,
+    "shown": shown,
 }
 OF_A_FAMILY_AND_THINGS = {
     "left_on": left_on,

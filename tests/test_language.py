@@ -1,4 +1,4 @@
-"""The package keeps to the small part of Python that it is written in; so it has no clock, chance or files (point 1)."""
+"""The package keeps to the small part of Python it is written in; so it has no clock, chance or files (point 1)."""
 
 import ast
 import builtins
@@ -105,6 +105,10 @@ class TheLanguage(unittest.TestCase):
                 if isinstance(node, ast.ListComp):
                     self.assertEqual(len(node.generators), 1, node.lineno)
                     self.assertLessEqual(len(node.generators[0].ifs), 1, node.lineno)
+                if isinstance(node, ast.FormattedValue):
+                    self.assertIsInstance(node.value, ast.Name, node.lineno)
+                    self.assertIn(node.conversion, (-1, ord("r")), node.lineno)
+                    self.assertIsNone(node.format_spec, node.lineno)
                 if isinstance(node, ast.Constant):
                     self.assertIn(type(node.value), (int, str, bool, type(None)), node.lineno)
                     self.assertFalse(isinstance(node.value, str) and "%" in node.value, node.lineno)

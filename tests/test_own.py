@@ -4,7 +4,10 @@ import unittest
 from copy import deepcopy
 
 from pickhouse.families import is_family
+from pickhouse.notes import read, shown
 from pickhouse.picks import bound
+from pickhouse.pressing import pressed
+from pickhouse.telling import teller
 from tests.helper import OF_A_FAMILY, OF_A_FAMILY_AND_THINGS, all_sets, mixed_families
 
 FAMILIES = [
@@ -27,12 +30,17 @@ def every_call():
                 yield name, call, [many, deepcopy(family), list(things)]
     for many, family in FAMILIES:
         yield "is_family", is_family, [many, deepcopy(family)]
+        yield "read", read, [shown(many, family)]
+        for thing in range(many):
+            yield "pressed", pressed, [many, deepcopy(family), thing]
+        for member in family:
+            yield "teller", teller, [many, deepcopy(family), list(member)]
 
 
 def lists_in(value):
-    if not isinstance(value, list):
+    if not isinstance(value, (list, tuple)):
         return []
-    return [value] + [found for one in value for found in lists_in(one)]
+    return [value] * isinstance(value, list) + [found for one in value for found in lists_in(one)]
 
 
 def spoil(value):
@@ -61,9 +69,9 @@ class Own(unittest.TestCase):
             answer = call(*handed)
             again = call(*handed)
             expected = deepcopy(answer)
-            for found in lists_in(answer)[1:]:
+            for found in lists_in(answer):
                 found.append(99)
-                rest = [one for one in lists_in(answer)[1:] if one is not found]
+                rest = [one for one in lists_in(answer) if one is not found]
                 self.assertTrue(all(99 not in one for one in rest), name)
                 found.pop()
             spoil(answer)
@@ -88,15 +96,32 @@ class Own(unittest.TestCase):
             self.assertEqual(answer, call(3, family, [0, 1]), name)
             self.assertEqual(family, [[0, 1], [2], [], [1]], name)
 
+    def test_a_member_may_be_asked_for_by_its_own_list(self):
+        family = [[0, 1], [2], [], [1]]
+        answers = [teller(3, family, member) for member in family]
+        self.assertEqual(answers, [[0], [2], [1, 2], [0, 1]])
+        for answer in answers:
+            spoil(answer)
+        self.assertEqual(family, [[0, 1], [2], [], [1]])
+
     def test_the_kinds_told(self):
         for name, call, handed in every_call():
             answer = call(*handed)
-            if name in ("picks", "is_family"):
+            if name in ("picks", "is_family", "is_down"):
                 self.assertIsInstance(answer, bool, name)
             elif name == "reach":
                 self.assertTrue(answer is None or type(answer) is int, name)
             elif name in ("missing", "cube_at"):
                 self.assertTrue(answer is None or is_family(handed[0], [answer]), name)
+            elif name in ("teller", "apart"):
+                self.assertIs(type(answer), list, name)
+                self.assertTrue(is_family(handed[0], [answer]), name)
+            elif name == "shown":
+                self.assertIs(type(answer), str, name)
+            elif name == "read":
+                self.assertIs(type(answer), tuple, name)
+                self.assertEqual([type(one) for one in answer], [int, list], name)
+                self.assertTrue(is_family(*answer), name)
             else:
                 self.assertIs(type(answer), list, name)
                 self.assertTrue(all(type(one) is list for one in answer), name)

@@ -1,9 +1,11 @@
-"""Point 2, and the interface's head: what is a family, what is a set, and which refusal goes ahead."""
+"""Point 2, and the interface's head: what is a family, a set, a thing and a member, and which refusal goes ahead."""
 
 import unittest
 
-from pickhouse.errors import NoFamily, NoSet
+from pickhouse.errors import NoFamily, NoMember, NoSet, NoThing
 from pickhouse.families import is_family
+from pickhouse.pressing import pressed
+from pickhouse.telling import teller
 from tests.helper import OF_A_FAMILY, OF_A_FAMILY_AND_THINGS, all_families, all_sets, mixed_families
 
 FAR = 10 ** 30
@@ -137,6 +139,39 @@ class Refused(unittest.TestCase):
                     call(many, [[]], [many - 1])
                     self.assert_refused(NoSet, call, many, [[]], [many])
 
+    def test_no_family_goes_ahead_of_no_thing(self):
+        for many, family in NO_FAMILIES:
+            for thing in (0, 1, -1, many - 1, many, 6, 7, FAR, -FAR):
+                with self.subTest(many=many, family=family, thing=thing):
+                    self.assert_refused(NoFamily, pressed, many, family, thing)
+
+    def test_no_thing(self):
+        for many in range(1, 7):
+            for family in ([], [[]], [[0]], all_sets(many)):
+                for thing in (-1, -many, -FAR, many, many + 1, 60, FAR):
+                    with self.subTest(many=many, family=family, thing=thing):
+                        self.assert_refused(NoThing, pressed, many, family, thing)
+
+    def test_no_family_goes_ahead_of_no_set_and_no_member(self):
+        for many, family in NO_FAMILIES:
+            for member in [[], [0], [-1], [1, 0], [0, 0], [many], [FAR]] + family[:2]:
+                with self.subTest(many=many, family=family, member=member):
+                    self.assert_refused(NoFamily, teller, many, family, member)
+
+    def test_no_set_goes_ahead_of_no_member(self):
+        for family in ([], [[]], [[2], [0, 1]], all_sets(3)):
+            for member in NO_SETS_OF_THREE:
+                with self.subTest(family=family, member=member):
+                    self.assert_refused(NoSet, teller, 3, family, member)
+        for many in range(1, 7):
+            self.assert_refused(NoSet, teller, many, [[many - 1]], [many])
+
+    def test_no_member(self):
+        for many, family in FAMILIES + [(3, family) for family in all_families(3)]:
+            for one in all_sets(many):
+                if one not in family:
+                    self.assert_refused(NoMember, teller, many, family, one)
+
     def test_nothing_else_is_refused(self):
         for many, family in FAMILIES:
             for call in OF_A_FAMILY.values():
@@ -144,3 +179,7 @@ class Refused(unittest.TestCase):
             for call in OF_A_FAMILY_AND_THINGS.values():
                 for things in all_sets(many):
                     call(many, family, things)
+            for thing in range(many):
+                pressed(many, family, thing)
+            for member in family:
+                teller(many, family, member)
